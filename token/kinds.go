@@ -27,7 +27,7 @@ func first(text string) (api.Token, int) {
 	if value, ok := number(word); ok {
 		return api.Token{Kind: api.TokenNumber, Value: value}, len(word)
 	}
-	if isName(word) {
+	if IsName(word) {
 		return api.Token{Kind: api.TokenName, Text: strings.Clone(word)}, len(word)
 	}
 	return api.Token{}, 0
@@ -78,7 +78,8 @@ func number(text string) (int, bool) {
 	return int(value), true
 }
 
-func isName(text string) bool {
+// IsName tells whether a text is a name.
+func IsName(text string) bool {
 	return text != "" && len(text) <= api.MaxName && !isDigit(text[0]) && wordSize(text) == len(text)
 }
 
@@ -86,17 +87,17 @@ func isSign(text string) bool {
 	return text != "" && signSize(text) == len(text)
 }
 
-// isMalformed tells whether there is no token with the given kind, text and value.
-func isMalformed(t api.Token) bool {
+// IsToken tells whether there is a token with the kind, text and value of t, whose offset does not matter.
+func IsToken(t api.Token) bool {
 	switch t.Kind {
 	case api.TokenName:
-		return !isName(t.Text) || t.Value != 0
+		return IsName(t.Text) && t.Value == 0
 	case api.TokenNumber:
-		return t.Value < 0 || t.Value > math.MaxUint32 || t.Text != ""
+		return t.Value >= 0 && t.Value <= math.MaxUint32 && t.Text == ""
 	case api.TokenSign:
-		return !isSign(t.Text) || t.Value != 0
+		return isSign(t.Text) && t.Value == 0
 	}
-	return true
+	return false
 }
 
 // textOf returns how Join writes a token.

@@ -63,3 +63,42 @@ func TestRepeats(t *testing.T) {
 		expectJoin(t, []api.Token{name("a", 0), {}}, "", malformed(1))
 	}
 }
+
+// TestIsName compares texts with the names of the samples, and with what Join accepts as one.
+func TestIsName(t *testing.T) {
+	for _, text := range names() {
+		if !token.IsName(text) {
+			t.Errorf("%q is no name", text)
+		}
+	}
+	for _, text := range slices.Concat(wrongNames(), wrongNumbers(), allSigns()) {
+		if token.IsName(text) {
+			t.Errorf("%.99q is a name", text)
+		}
+	}
+	sequences("", []string{"a", "Z", "0", ".", "_", "$", "+", " ", ";", "\xff"}, 4, func(text string) {
+		_, fault := token.Join([]api.Token{name(text, 0)})
+		if token.IsName(text) != (fault == none) {
+			t.Errorf("%q: IsName and Join differ", text)
+		}
+	})
+}
+
+// TestIsToken compares elements with the samples, whatever their offsets are.
+func TestIsToken(t *testing.T) {
+	l, _ := tokensWithTexts()
+	for _, at := range []int{0, 1, -1, api.MaxText + 1} {
+		for _, right := range l {
+			right.At = at
+			if !token.IsToken(right) {
+				t.Errorf("%v is no token", right)
+			}
+		}
+		for _, wrong := range wrongTokens() {
+			wrong.At = at
+			if token.IsToken(wrong) {
+				t.Errorf("%.99v is a token", wrong)
+			}
+		}
+	}
+}
