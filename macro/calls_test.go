@@ -191,3 +191,21 @@ func TestMadeLines(t *testing.T) {
 	rejects(t, `.macro m a b|\a \b|.endm|.if 1|m .endif,|.endif`, api.ErrSyntax, 4)
 	rejects(t, `.macro m a b|\a \b|.endm|.if 0|m .else,|.endif|m .else,`, api.ErrSyntax, 6)
 }
+
+// TestEveryByte has each byte at the ends of arguments and of first words: only spaces and tabs are left out.
+func TestEveryByte(t *testing.T) {
+	for b := range 256 {
+		text := string([]byte{byte(b)})
+		call, word := "m "+text+"x"+text, text+"m"+text+"x"
+		switch text {
+		case " ", "\t":
+			expect(t, []string{".macro m a", "<\\a>", ".endm", call, word}, made(t, "3 <x>|4 <x>"), none)
+		case ",":
+			expect(t, []string{".macro m a b c", "<\\a\\b\\c>", ".endm", call, word}, []api.Line{{Text: "<x>", From: 3}, {Text: word, From: 4}}, none)
+		case ";":
+			expect(t, []string{".macro m", "<>", ".endm", call, word}, []api.Line{{Text: "<>", From: 3}, {Text: word, From: 4}}, none)
+		default:
+			expect(t, []string{".macro m a", "<\\a>", ".endm", call, word}, []api.Line{{Text: "<" + text + "x" + text + ">", From: 3}, {Text: word, From: 4}}, none)
+		}
+	}
+}
